@@ -1,0 +1,1 @@
+"""Rowasks: asks over the rows of a log."""

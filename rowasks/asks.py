@@ -1,0 +1,127 @@
+"""Asks: tuples of steps, each of which makes rows of rows."""
+
+from rowasks.errors import NoAsk
+from rowasks.rows import is_key, is_whole, refuse_out_of_order, refuse_what_is_no_row
+
+MOST_STEPS = 5
+GREATEST_STEP_NUMBER = 20
+
+
+def of_key(rows, key):
+    return [row for row in rows if row[1] == key]
+
+
+def over(rows, bound):
+    return [row for row in rows if row[2] > bound]
+
+
+def under(rows, bound):
+    return [row for row in rows if row[2] < bound]
+
+
+def plus(rows, more):
+    return [(moment, key, number + more) for moment, key, number in rows]
+
+
+def times(rows, factor):
+    return [(moment, key, number * factor) for moment, key, number in rows]
+
+
+def first(rows, many):
+    return rows[:many]
+
+
+def each(rows, many):
+    return rows[many - 1::many]
+
+
+def window(rows, size):
+    sums = {}
+    for moment, key, number in rows:
+        place = (moment // size, key)
+        sums[place] = sums.get(place, 0) + number
+    return [((place[0] + 1) * size - 1, place[1], sums[place]) for place in sorted(sums)]
+
+
+def running(rows):
+    sums = {}
+    made = []
+    for moment, key, number in rows:
+        sums[key] = sums.get(key, 0) + number
+        made.append((moment, key, sums[key]))
+    return made
+
+
+def change(rows):
+    ahead = {}
+    made = []
+    for moment, key, number in rows:
+        if key in ahead:
+            made.append((moment, key, number - ahead[key]))
+        ahead[key] = number
+    return made
+
+
+def unlike(rows):
+    ahead = {}
+    made = []
+    for moment, key, number in rows:
+        if key not in ahead or ahead[key] != number:
+            made.append((moment, key, number))
+        ahead[key] = number
+    return made
+
+
+# The steps by what stands behind their word: any small number, a number from 1 on, nothing.
+NUMBER_STEPS = {"over": over, "under": under, "plus": plus, "times": times}
+COUNT_STEPS = {"first": first, "each": each, "window": window}
+BARE_STEPS = {"running": running, "change": change, "unlike": unlike}
+
+
+def is_step(thing):
+    # The word must be a text ahead of any look into a dict: a list can't be looked up there.
+    if not isinstance(thing, tuple) or len(thing) == 0 or not isinstance(thing[0], str):
+        return False
+    word = thing[0]
+    if word in BARE_STEPS:
+        return len(thing) == 1
+    if len(thing) != 2:
+        return False
+    if word == "key":
+        return is_key(thing[1])
+    if word in NUMBER_STEPS:
+        return is_whole(thing[1], -GREATEST_STEP_NUMBER, GREATEST_STEP_NUMBER)
+    return word in COUNT_STEPS and is_whole(thing[1], 1, GREATEST_STEP_NUMBER)
+
+
+def is_ask(thing):
+    if not isinstance(thing, tuple) or len(thing) > MOST_STEPS:
+        return False
+    return all([is_step(step) for step in thing])
+
+
+def refuse_what_is_no_ask(ask):
+    if not is_ask(ask):
+        raise NoAsk(f"no ask: {ask!r}")
+
+
+def behind_step(step, rows):
+    word = step[0]
+    if word in BARE_STEPS:
+        make = BARE_STEPS[word]
+        return make(rows)
+    if word == "key":
+        return of_key(rows, step[1])
+    make = NUMBER_STEPS[word] if word in NUMBER_STEPS else COUNT_STEPS[word]
+    return make(rows, step[1])
+
+
+def asked(ask, rows):
+    refuse_what_is_no_ask(ask)
+    refuse_what_is_no_row(rows)
+    refuse_out_of_order(rows)
+    # A copy, so that an ask without steps doesn't hand back the very list it got.
+    told = list(rows)
+    for step in ask:
+        told = behind_step(step, told)
+    return told

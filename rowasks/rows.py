@@ -1,0 +1,82 @@
+"""Rows (moment, key, number), logs of them, and the texts of logs."""
+
+from rowasks.errors import NoRow, NoText, TooLate
+
+GREATEST_MOMENT = 99
+GREATEST_NUMBER = 99
+LONGEST_KEY = 2
+
+
+def is_whole(thing, least, greatest):
+    # Python counts True and False among the ints; here they are no numbers.
+    if not isinstance(thing, int) or isinstance(thing, bool):
+        return False
+    return least <= thing <= greatest
+
+
+def is_key(thing):
+    if not isinstance(thing, str) or not 1 <= len(thing) <= LONGEST_KEY:
+        return False
+    # islower would let in letters from beyond a to z.
+    return all(["a" <= sign <= "z" for sign in thing])
+
+
+def is_row(thing):
+    if not isinstance(thing, tuple) or len(thing) != 3:
+        return False
+    if not is_whole(thing[0], 0, GREATEST_MOMENT) or not is_key(thing[1]):
+        return False
+    return is_whole(thing[2], -GREATEST_NUMBER, GREATEST_NUMBER)
+
+
+def is_log(rows):
+    # Only the order is asked here: rows that answers tell may go beyond is_row.
+    return all([ahead[0] <= row[0] for ahead, row in zip(rows, rows[1:])])
+
+
+def in_order(rows):
+    # sorted leaves rows of one moment as they stand, where the moment alone is its key.
+    return sorted(rows, key=lambda row: row[0])
+
+
+def refuse_what_is_no_row(rows):
+    for row in rows:
+        if not is_row(row):
+            raise NoRow(f"no row: {row!r}")
+
+
+def refuse_out_of_order(rows):
+    if not is_log(rows):
+        raise TooLate("a row stands behind one of a greater moment")
+
+
+def log_text(rows):
+    return "".join([f"{moment} {key} {number}\n" for moment, key, number in rows])
+
+
+def read_log(text):
+    lines = text.split("\n")
+    # Each line is ended by a line feed, so nothing may stand behind the last one.
+    if lines[-1] != "":
+        raise NoText(f"no line feed at the end: {text!r}")
+    return [read_row(line) for line in lines[:-1]]
+
+
+def read_row(line):
+    parts = line.split(" ")
+    if len(parts) != 3:
+        raise NoText(f"not three parts: {line!r}")
+    row = (read_number(parts[0]), parts[1], read_number(parts[2]))
+    if not is_row(row):
+        raise NoText(f"not the writing of a row: {line!r}")
+    return row
+
+
+def read_number(text):
+    # None of a text that is not the writing of a whole number.
+    try:
+        number = int(text)
+    except ValueError:
+        return None
+    # int takes blanks, signs, leading zeros and underscores that no number is written with.
+    return number if str(number) == text else None
