@@ -101,8 +101,9 @@ def is_ask(thing):
 
 
 def refuse_what_is_no_ask(ask):
+    # The words leave out the thing itself: Python can't write out every whole number that may stand in it.
     if not is_ask(ask):
-        raise NoAsk(f"no ask: {ask!r}")
+        raise NoAsk("an ask is a tuple of at most five steps")
 
 
 def behind_step(step, rows):

@@ -40,9 +40,9 @@ def in_order(rows):
 
 
 def refuse_what_is_no_row(rows):
-    for row in rows:
-        if not is_row(row):
-            raise NoRow(f"no row: {row!r}")
+    # The words leave out the thing itself: Python can't write out every whole number that may stand in it.
+    if not all([is_row(row) for row in rows]):
+        raise NoRow("a row is a tuple of a moment, a key and a number")
 
 
 def refuse_out_of_order(rows):

@@ -7,7 +7,7 @@ import unittest
 from rowasks.asks import asked, is_ask
 from rowasks.errors import AskError, NoAsk, NoRow, TooLate
 from rowasks.rows import is_log, is_row
-from things import ODD_THINGS
+from things import GREAT_THINGS, ODD_THINGS
 
 ANY_NUMBER_WORDS = ["over", "under", "plus", "times"]
 COUNT_WORDS = ["first", "each", "window"]
@@ -101,6 +101,9 @@ class Asks(unittest.TestCase):
                 self.wrong((thing,) if thing != "running" else ((thing,),))
                 self.wrong((thing, thing))
                 self.wrong(("running",), thing)
+
+    def test_great_whole_numbers(self):
+        self.assertEqual([is_ask(thing) for thing in GREAT_THINGS], [False] * len(GREAT_THINGS))
 
 
 class Steps(unittest.TestCase):
@@ -353,6 +356,14 @@ class Refusals(unittest.TestCase):
         # The row that is none is also the one that would stand out of its order.
         self.refused(NoRow, (), [(5, "a", 1), (4, "a", 100)])
         self.refused(NoRow, (), [(100, "a", 1), (4, "a", 1)])
+
+    def test_great_whole_numbers(self):
+        for thing in GREAT_THINGS:
+            for ask, rows, error in [(thing, [], NoAsk), (thing, [thing], NoAsk), ((), [thing], NoRow),
+                                     ((("running",),), LOG + [thing], NoRow), ((), self.LATE + [thing], NoRow)]:
+                with self.assertRaises(AskError) as caught:
+                    asked(ask, rows)
+                self.assertIs(type(caught.exception), error)
 
     def test_what_is_refused_changes_nothing(self):
         for ask, rows in [(None, [(1, "a", 1)]), ((), [(1, "a", 1), [2, "b"]]), ((), [(5, "a", 1), (4, "a", 1)])]:

@@ -3,7 +3,7 @@
 import unittest
 
 from rowasks.rows import in_order, is_log, is_row
-from things import ODD_THINGS
+from things import GREAT_THINGS, ODD_THINGS
 
 
 class Rows(unittest.TestCase):
@@ -45,6 +45,9 @@ class Rows(unittest.TestCase):
             self.wrong(thing)
             self.wrong((thing, thing, thing))
             self.wrong([thing])
+
+    def test_great_whole_numbers(self):
+        self.assertEqual([is_row(thing) for thing in GREAT_THINGS], [False] * len(GREAT_THINGS))
 
 
 class Logs(unittest.TestCase):
