@@ -27,24 +27,39 @@ def times(rows, factor):
     return [(moment, key, number * factor) for moment, key, number in rows]
 
 
-def first(rows, many):
-    return rows[:many]
+# What a step must know of rows that came to it earlier stands in a dict that it is handed and changes: so the same
+# step makes its rows of a whole log at once or of one row after the other.
 
 
-def each(rows, many):
-    return rows[many - 1::many]
+def first(rows, many, kept):
+    came = kept.get("came", 0)
+    kept["came"] = came + len(rows)
+    return rows[:max(many - came, 0)]
 
 
-def window(rows, size):
-    sums = {}
+def each(rows, many, kept):
+    came = kept.get("came", 0)
+    kept["came"] = (came + len(rows)) % many
+    return rows[many - 1 - came::many]
+
+
+def window(rows, size, sums):
+    # The sums are those of one window alone, by (window, key); rows come by their moments.
+    made = []
     for moment, key, number in rows:
         place = (moment // size, key)
+        if len(sums) > 0 and max(sums)[0] < place[0]:
+            made.extend(window_rows(size, sums))
+            sums.clear()
         sums[place] = sums.get(place, 0) + number
+    return made
+
+
+def window_rows(size, sums):
     return [((place[0] + 1) * size - 1, place[1], sums[place]) for place in sorted(sums)]
 
 
-def running(rows):
-    sums = {}
+def running(rows, sums):
     made = []
     for moment, key, number in rows:
         sums[key] = sums.get(key, 0) + number
@@ -52,8 +67,7 @@ def running(rows):
     return made
 
 
-def change(rows):
-    ahead = {}
+def change(rows, ahead):
     made = []
     for moment, key, number in rows:
         if key in ahead:
@@ -62,8 +76,7 @@ def change(rows):
     return made
 
 
-def unlike(rows):
-    ahead = {}
+def unlike(rows, ahead):
     made = []
     for moment, key, number in rows:
         if key not in ahead or ahead[key] != number:
@@ -106,15 +119,26 @@ def refuse_what_is_no_ask(ask):
         raise NoAsk("an ask is a tuple of at most five steps")
 
 
-def behind_step(step, rows):
+def behind_step(step, rows, kept):
     word = step[0]
-    if word in BARE_STEPS:
-        make = BARE_STEPS[word]
-        return make(rows)
     if word == "key":
         return of_key(rows, step[1])
-    make = NUMBER_STEPS[word] if word in NUMBER_STEPS else COUNT_STEPS[word]
-    return make(rows, step[1])
+    if word in NUMBER_STEPS:
+        make = NUMBER_STEPS[word]
+        return make(rows, step[1])
+    if word in COUNT_STEPS:
+        make = COUNT_STEPS[word]
+        return make(rows, step[1], kept)
+    make = BARE_STEPS[word]
+    return make(rows, kept)
+
+
+def behind_last_rows(step, rows, kept):
+    # Behind these no row comes to the step any more, so its last window is told too.
+    made = behind_step(step, rows, kept)
+    if step[0] == "window":
+        return made + window_rows(step[1], kept)
+    return made
 
 
 def asked(ask, rows):
@@ -124,5 +148,5 @@ def asked(ask, rows):
     # A copy, so that an ask without steps doesn't hand back the very list it got.
     told = list(rows)
     for step in ask:
-        told = behind_step(step, told)
+        told = behind_last_rows(step, told, {})
     return told

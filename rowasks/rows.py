@@ -1,6 +1,6 @@
 """Rows (moment, key, number), logs of them, and the texts of logs."""
 
-from rowasks.errors import NoRow, NoText, TooLate
+from rowasks.errors import Ended, NoRow, NoText, TooLate
 
 GREATEST_MOMENT = 99
 GREATEST_NUMBER = 99
@@ -48,6 +48,19 @@ def refuse_what_is_no_row(rows):
 def refuse_out_of_order(rows):
     if not is_log(rows):
         raise TooLate("a row stands behind one of a greater moment")
+
+
+def refuse_when_ended(ended):
+    if ended:
+        raise Ended("no row comes any more")
+
+
+def refuse_to_take(row, ended, earliest):
+    # What takes row by row refuses in this order; earliest is the least moment that a row may still have.
+    refuse_when_ended(ended)
+    refuse_what_is_no_row([row])
+    if row[0] < earliest:
+        raise TooLate("the row's moment is too early for what came ahead of it")
 
 
 def log_text(rows):

@@ -7,11 +7,9 @@ import unittest
 from rowasks.asks import asked, is_ask
 from rowasks.errors import AskError, NoAsk, NoRow, TooLate
 from rowasks.rows import is_log, is_row
-from things import GREAT_THINGS, ODD_THINGS
+from things import (ANY_NUMBER_WORDS, BARE_WORDS, COUNT_WORDS, GREAT_THINGS, NO_ASKS, NO_ROWS, ODD_THINGS, each_step,
+                    plain_step, some_ask, some_log)
 
-ANY_NUMBER_WORDS = ["over", "under", "plus", "times"]
-COUNT_WORDS = ["first", "each", "window"]
-BARE_WORDS = ["running", "change", "unlike"]
 NO_WHOLE_NUMBERS = [None, True, False, "1", "", "a", (1,), [1], (), []]
 
 LOG = [(0, "a", 5), (0, "b", -3), (2, "a", 5), (3, "c", 0), (3, "b", -3), (5, "a", -7), (8, "b", 4), (8, "c", 12)]
@@ -309,11 +307,6 @@ class Lists(unittest.TestCase):
 
 
 class Refusals(unittest.TestCase):
-    NO_ASKS = [None, True, 0, "running", [], [("running",)], ("running",), ((),), (("over", 21),), (("first", 0),),
-               (("key", "abc"),), (("plus", True),), (("running",),) * 6, (["running"],), (([],),)]
-    NO_ROWS = [None, True, 0, "", "0 a 0", [], (), [0, "a", 0], (0, "a"), (0, "a", 0, 0), (-1, "a", 0), (100, "a", 0),
-               (0, "", 0), (0, "A", 0), (0, "abc", 0), (0, "a", 100), (0, "a", -100), (True, "a", 0), (0, "a", False),
-               (0, ["a"], 0), ((0, "a", 0),), [[[[[]]]]]]
     LATE = [(5, "a", 1), (4, "a", 1)]
 
     def refused(self, error, ask, rows):
@@ -323,12 +316,12 @@ class Refusals(unittest.TestCase):
             self.assertIs(type(caught.exception), error)
 
     def test_no_ask(self):
-        for ask in self.NO_ASKS + ODD_THINGS:
+        for ask in NO_ASKS + ODD_THINGS:
             self.refused(NoAsk, ask, LOG)
             self.refused(NoAsk, ask, [])
 
     def test_no_row(self):
-        for thing in self.NO_ROWS + ODD_THINGS:
+        for thing in NO_ROWS + ODD_THINGS:
             self.refused(NoRow, (), [thing])
             self.refused(NoRow, (("running",),), LOG + [thing])
             self.refused(NoRow, (("first", 1),), [(0, "a", 0), thing, (0, "b", 0)])
@@ -345,11 +338,11 @@ class Refusals(unittest.TestCase):
         self.refused(TooLate, (), [(0, "a", 0), (9, "a", 0), (8, "b", 0), (9, "a", 0)])
 
     def test_of_several_the_first_told(self):
-        for ask in self.NO_ASKS:
+        for ask in NO_ASKS:
             self.refused(NoAsk, ask, [None])
             self.refused(NoAsk, ask, self.LATE)
             self.refused(NoAsk, ask, self.LATE + [None])
-        for thing in self.NO_ROWS:
+        for thing in NO_ROWS:
             self.refused(NoRow, (), self.LATE + [thing])
             self.refused(NoRow, (), [thing] + self.LATE)
             self.refused(NoRow, (("key", "a"),), self.LATE[:1] + [thing] + self.LATE[1:])
@@ -371,62 +364,6 @@ class Refusals(unittest.TestCase):
             with self.assertRaises(AskError):
                 asked(ask, rows)
             self.assertEqual(rows, kept)
-
-
-def each_step():
-    steps = [("key", "a"), ("key", "b"), ("key", "zz")]
-    steps += [(word, number) for word in ANY_NUMBER_WORDS for number in [-20, -3, -1, 0, 1, 2, 5, 20]]
-    steps += [(word, number) for word in COUNT_WORDS for number in [1, 2, 3, 5, 19, 20]]
-    return steps + [(word,) for word in BARE_WORDS]
-
-
-def some_ask(chance):
-    return tuple(chance.choice(each_step()) for turn in range(chance.randint(0, 5)))
-
-
-def some_log(chance):
-    greatest = chance.choice([5, 20, 99])
-    size = chance.choice([3, 99])
-    rows = [(chance.randint(0, greatest), chance.choice(["a", "b", "ab"]), chance.randint(-size, size))
-            for turn in range(chance.randint(0, 12))]
-    return sorted(rows, key=lambda row: row[0])
-
-
-def plain_step(step, rows):
-    word = step[0]
-    n = step[1] if len(step) == 2 else None
-    if word == "window":
-        return plain_window(n, rows)
-    made = []
-    for place, (moment, key, number) in enumerate(rows):
-        of_key = [row[2] for row in rows[:place] if row[1] == key]
-        keeps = {
-            "key": key == n,
-            "over": n is not None and word == "over" and number > n,
-            "under": n is not None and word == "under" and number < n,
-            "first": word == "first" and place < n,
-            "each": word == "each" and (place + 1) % n == 0,
-            "change": len(of_key) > 0,
-            "unlike": len(of_key) == 0 or of_key[-1] != number,
-        }
-        gives = {
-            "plus": lambda: number + n,
-            "times": lambda: number * n,
-            "running": lambda: sum(of_key) + number,
-            "change": lambda: number - of_key[-1],
-        }
-        if keeps.get(word, True):
-            made.append((moment, key, gives[word]() if word in gives else number))
-    return made
-
-
-def plain_window(n, rows):
-    made = []
-    for last in range(n - 1, 1000, n):
-        inside = [row for row in rows if last - n < row[0] <= last]
-        for key in sorted({row[1] for row in inside}):
-            made.append((last, key, sum(row[2] for row in inside if row[1] == key)))
-    return made
 
 
 if __name__ == "__main__":

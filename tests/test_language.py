@@ -21,6 +21,7 @@ BANNED_WORDS = re.compile(
     r"\b(type|typing|typing_extensions|enum|Enum|IntEnum|StrEnum|Flag|IntFlag|Generic|Protocol|ABC|ABCMeta|namedtuple"
     r"|NamedTuple|TypedDict|TYPE_CHECKING|abstractmethod)\b|dataclass|overload|contextmanager")
 BANNED_NAMES = set("register mro elements open input version_info with_traceback add_note format format_map".split())
+ALLOWED_VALUES = set("count index title find get join lower upper split strip copy add".split())
 STATEMENTS = (ast.Assign, ast.AugAssign, ast.If, ast.While, ast.For, ast.Return, ast.Break, ast.Continue, ast.Pass,
               ast.Raise, ast.Try, ast.Expr, ast.FunctionDef, ast.ClassDef, ast.ImportFrom)
 BANNED_NODES = (ast.NamedExpr, ast.SetComp, ast.DictComp, ast.GeneratorExp, ast.Starred, ast.Yield, ast.YieldFrom,
@@ -140,6 +141,32 @@ def name_faults(node, bound, methods):
     return []
 
 
+def class_faults(trees):
+    """L18 and L26: names that are a method in one class and a value in another, or values named like Python's own."""
+    nodes = [node for tree in trees for node in ast.walk(tree)]
+    classes = [node for node in nodes if isinstance(node, ast.ClassDef)]
+    methods = {part.name for node in classes for part in node.body if isinstance(part, ast.FunctionDef)}
+    values = {node.attr for node in nodes if isinstance(node, ast.Attribute) and isinstance(node.ctx, ast.Store)}
+    pythons = {name for kind in (str, int, list, dict, set, bytes, tuple) for name in vars(kind)} - ALLOWED_VALUES
+    return [("L18", name) for name in sorted(methods & values)] + [("L26", name) for name in sorted(values & pythons)]
+
+
+def circle_faults(drawn):
+    """L16: files, by their names with those they draw from, that draw from one another in whatever many steps."""
+    found = []
+    for name in sorted(drawn):
+        reached = set()
+        ahead = list(drawn[name])
+        while ahead:
+            other = ahead.pop()
+            if other not in reached:
+                reached.add(other)
+                ahead += drawn.get(other, [])
+        if name in reached:
+            found.append(("L16", name))
+    return found
+
+
 def bound_names(tree):
     found = {name for node in tree.body for name in top_names(node)}
     for node in ast.walk(tree):
@@ -157,6 +184,13 @@ class Package(unittest.TestCase):
         for path in sorted(PACKAGE.glob("*.py")):
             with self.subTest(path.name):
                 self.assertEqual(faults(path.read_text(encoding="utf-8")), [])
+
+    def test_the_files_together_keep_to_the_rules(self):
+        trees = {path.stem: ast.parse(path.read_text(encoding="utf-8")) for path in sorted(PACKAGE.glob("*.py"))}
+        drawn = {name: [node.module.split(".")[-1] for node in tree.body if isinstance(node, ast.ImportFrom)]
+                 for name, tree in trees.items()}
+        self.assertEqual(class_faults(trees.values()), [])
+        self.assertEqual(circle_faults(drawn), [])
 
     def test_nothing_else_lies_in_the_package(self):
         for path in PACKAGE.iterdir():
@@ -179,6 +213,14 @@ class TheCheckItself(unittest.TestCase):
                 ("L25", "def f(x):\n    return x.title()"), ("L27", "X = '5 %'")]:
             with self.subTest(code=code):
                 self.assertIn(rule, [fault[0] for fault in faults('"""Words."""\n' + code + "\n")])
+
+    def test_it_sees_what_stands_outside_in_files_together(self):
+        one = ast.parse("class A:\n    def end(self):\n        self.kept = 1")
+        other = ast.parse("class B:\n    def take(self):\n        self.end = 1\n        self.items = 2")
+        self.assertEqual(class_faults([one]), [])
+        self.assertEqual(class_faults([one, other]), [("L18", "end"), ("L26", "items")])
+        self.assertEqual(circle_faults({"a": ["b"], "b": ["c"], "c": []}), [])
+        self.assertEqual(circle_faults({"a": ["b"], "b": ["c"], "c": ["b"]}), [("L16", "b"), ("L16", "c")])
 
     def test_it_lets_stand_what_keeps_to_the_rules(self):
         code = '"""Words."""\n\n\ndef f(xs):\n    return [x + 1 for x in xs if x is not None]\n'

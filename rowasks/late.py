@@ -1,0 +1,43 @@
+"""Late rows: a sorter that puts rows in their order as they come."""
+
+from rowasks.errors import TooLate
+from rowasks.rows import in_order, refuse_to_take, refuse_when_ended
+
+
+class Sorter:
+    def __init__(self, late):
+        self.late = late
+        # No row has a moment below 0, so 0 lets in any first row.
+        self.newest = 0
+        self.waiting = []
+        self.lost = 0
+        self.ended = False
+
+    def take(self, row):
+        refuse_to_take(row, self.ended, self.newest - self.late)
+        self.newest = max(self.newest, row[0])
+        # Put in order behind those that wait, a row stands behind all that came ahead of it with its moment.
+        rows = in_order(self.waiting + [row])
+        bound = self.newest - self.late
+        self.waiting = [later for later in rows if later[0] > bound]
+        return [told for told in rows if told[0] <= bound]
+
+    def drop_or_take(self, row):
+        try:
+            return self.take(row)
+        except TooLate:
+            self.lost = self.lost + 1
+            return []
+
+    def end(self):
+        refuse_when_ended(self.ended)
+        self.ended = True
+        told = self.waiting
+        self.waiting = []
+        return told
+
+    def waits(self):
+        return list(self.waiting)
+
+    def many_lost(self):
+        return self.lost
