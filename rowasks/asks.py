@@ -1,7 +1,7 @@
 """Asks: tuples of steps, each of which makes rows of rows."""
 
 from rowasks.errors import NoAsk
-from rowasks.rows import is_key, is_whole, refuse_out_of_order, refuse_what_is_no_row
+from rowasks.rows import is_key, is_whole, refuse_what_is_no_log
 
 MOST_STEPS = 5
 GREATEST_STEP_NUMBER = 20
@@ -143,8 +143,7 @@ def behind_last_rows(step, rows, kept):
 
 def asked(ask, rows):
     refuse_what_is_no_ask(ask)
-    refuse_what_is_no_row(rows)
-    refuse_out_of_order(rows)
+    refuse_what_is_no_log(rows)
     # A copy, so that an ask without steps doesn't hand back the very list it got.
     told = list(rows)
     for step in ask:

@@ -1,6 +1,6 @@
 """Rows (moment, key, number), logs of them, and the texts of logs."""
 
-from rowasks.errors import Ended, NoRow, NoText, TooLate
+from rowasks.errors import Ended, NoNumber, NoRow, NoText, TooLate
 
 GREATEST_MOMENT = 99
 GREATEST_NUMBER = 99
@@ -39,6 +39,10 @@ def in_order(rows):
     return sorted(rows, key=lambda row: row[0])
 
 
+def keys_of(rows):
+    return sorted(set([row[1] for row in rows]))
+
+
 def refuse_what_is_no_row(rows):
     # The words leave out the thing itself: Python can't write out every whole number that may stand in it.
     if not all([is_row(row) for row in rows]):
@@ -48,6 +52,16 @@ def refuse_what_is_no_row(rows):
 def refuse_out_of_order(rows):
     if not is_log(rows):
         raise TooLate("a row stands behind one of a greater moment")
+
+
+def refuse_what_is_no_log(rows):
+    refuse_what_is_no_row(rows)
+    refuse_out_of_order(rows)
+
+
+def refuse_number_beyond(thing, greatest):
+    if not is_whole(thing, 0, greatest):
+        raise NoNumber(f"not a whole number from 0 to {greatest}")
 
 
 def refuse_when_ended(ended):

@@ -4,6 +4,7 @@ import unittest
 
 from rowasks.errors import AskError, NoText
 from rowasks.rows import log_text, read_log
+from things import neighbours, texts_up_to
 
 LOGS = [
     [],
@@ -109,23 +110,6 @@ class ReadLog(unittest.TestCase):
             except NoText:
                 continue
             self.assertEqual(log_text(rows), other)
-
-
-def texts_up_to(signs, longest):
-    ended = [""]
-    last = [""]
-    for length in range(longest):
-        last = [text + sign for text in last for sign in signs]
-        ended.extend(last)
-    return ended
-
-
-def neighbours(text):
-    signs = [chr(code) for code in range(32, 127)] + ["\n"]
-    made = [text[:k] + text[k + 1:] for k in range(len(text))]
-    made += [text[:k] + sign + text[k:] for k in range(len(text) + 1) for sign in signs]
-    made += [text[:k] + sign + text[k + 1:] for k in range(len(text)) for sign in signs]
-    return made
 
 
 if __name__ == "__main__":

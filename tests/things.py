@@ -1,4 +1,4 @@
-"""What several test files need: things that are refused, some asks and logs, and a plain telling of the steps."""
+"""What several test files need: things that are refused, some asks, logs and texts, a plain telling of the steps."""
 
 from rowasks.errors import AskError
 
@@ -31,6 +31,10 @@ NO_ASKS = [None, True, 0, "running", [], [("running",)], ("running",), ((),), ((
 NO_ROWS = [None, True, 0, "", "0 a 0", [], (), [0, "a", 0], (0, "a"), (0, "a", 0, 0), (-1, "a", 0), (100, "a", 0),
            (0, "", 0), (0, "A", 0), (0, "abc", 0), (0, "a", 100), (0, "a", -100), (True, "a", 0), (0, "a", False),
            (0, ["a"], 0), ((0, "a", 0),), [[[[[]]]]]]
+
+# Things that are neither a gap nor a moment; of the great ones again no subTest may speak.
+NO_NUMBERS = [-1, -2, True, False, None, "", "0", "1", "a", [], [1], [[[[[1]]]]], (), (1,), (0, "a", 0),
+              GREAT, -GREAT, [GREAT], (GREAT,)]
 
 
 def each_step():
@@ -96,3 +100,20 @@ def refusal(call, *handed):
     except AskError as error:
         return type(error)
     return None
+
+
+def texts_up_to(signs, longest):
+    ended = [""]
+    last = [""]
+    for length in range(longest):
+        last = [text + sign for text in last for sign in signs]
+        ended.extend(last)
+    return ended
+
+
+def neighbours(text):
+    signs = [chr(code) for code in range(32, 127)] + ["\n"]
+    made = [text[:k] + text[k + 1:] for k in range(len(text))]
+    made += [text[:k] + sign + text[k:] for k in range(len(text) + 1) for sign in signs]
+    made += [text[:k] + sign + text[k + 1:] for k in range(len(text)) for sign in signs]
+    return made
