@@ -1,7 +1,7 @@
 """Asks: tuples of steps, each of which makes rows of rows."""
 
 from rowasks.errors import NoAsk
-from rowasks.rows import is_key, is_whole, refuse_what_is_no_log
+from rowasks.rows import is_key, is_whole_within, refuse_what_is_no_log
 
 MOST_STEPS = 5
 GREATEST_STEP_NUMBER = 20
@@ -103,8 +103,8 @@ def is_step(thing):
     if word == "key":
         return is_key(thing[1])
     if word in NUMBER_STEPS:
-        return is_whole(thing[1], -GREATEST_STEP_NUMBER, GREATEST_STEP_NUMBER)
-    return word in COUNT_STEPS and is_whole(thing[1], 1, GREATEST_STEP_NUMBER)
+        return is_whole_within(thing[1], -GREATEST_STEP_NUMBER, GREATEST_STEP_NUMBER)
+    return word in COUNT_STEPS and is_whole_within(thing[1], 1, GREATEST_STEP_NUMBER)
 
 
 def is_ask(thing):

@@ -1,6 +1,6 @@
 """Joins: couples of rows of two logs, of one key and close to one another."""
 
-from rowasks.rows import in_order, refuse_out_of_order, refuse_to_take, refuse_what_is_no_row, refuse_when_ended
+from rowasks.rows import in_order, refuse_to_take, refuse_what_are_no_two_logs, refuse_when_ended
 
 
 class Join:
@@ -27,7 +27,8 @@ class Join:
         return self.room()
 
     def room(self):
-        return len(self.near)
+        # With a width below 0 the last row itself is not near.
+        return len([row for row in self.near if self.newest - row[0] <= self.width])
 
 
 def couple(ahead, row, side):
@@ -38,10 +39,7 @@ def couple(ahead, row, side):
 
 
 def joined(one, other, width):
-    refuse_what_is_no_row(one)
-    refuse_what_is_no_row(other)
-    refuse_out_of_order(one)
-    refuse_out_of_order(other)
+    refuse_what_are_no_two_logs(one, other)
     # Of one moment the order stays, so those of the one come ahead of those of the other.
     rows = in_order([row + (0,) for row in one] + [row + (1,) for row in other])
     meeting = Join(width)

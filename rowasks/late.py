@@ -7,20 +7,19 @@ from rowasks.rows import in_order, refuse_to_take, refuse_when_ended
 class Sorter:
     def __init__(self, late):
         self.late = late
-        # No row has a moment below 0, so 0 lets in any first row.
-        self.newest = 0
+        # The newest moment less late; ahead of any row so low that none is too late.
+        self.bound = min(0, -late)
         self.waiting = []
         self.lost = 0
         self.ended = False
 
     def take(self, row):
-        refuse_to_take(row, self.ended, self.newest - self.late)
-        self.newest = max(self.newest, row[0])
+        refuse_to_take(row, self.ended, self.bound)
+        self.bound = max(self.bound, row[0] - self.late)
         # Put in order behind those that wait, a row stands behind all that came ahead of it with its moment.
         rows = in_order(self.waiting + [row])
-        bound = self.newest - self.late
-        self.waiting = [later for later in rows if later[0] > bound]
-        return [told for told in rows if told[0] <= bound]
+        self.waiting = [later for later in rows if later[0] > self.bound]
+        return [told for told in rows if told[0] <= self.bound]
 
     def drop_or_take(self, row):
         try:

@@ -7,26 +7,32 @@ GREATEST_NUMBER = 99
 LONGEST_KEY = 2
 
 
-def is_whole(thing, least, greatest):
+def is_whole(thing):
     # Python counts True and False among the ints; here they are no numbers.
-    if not isinstance(thing, int) or isinstance(thing, bool):
-        return False
-    return least <= thing <= greatest
+    return isinstance(thing, int) and not isinstance(thing, bool)
 
 
-def is_key(thing):
-    if not isinstance(thing, str) or not 1 <= len(thing) <= LONGEST_KEY:
+def is_whole_within(thing, least, greatest):
+    return is_whole(thing) and least <= thing <= greatest
+
+
+def is_word(thing, longest):
+    if not isinstance(thing, str) or not 1 <= len(thing) <= longest:
         return False
     # islower would let in letters from beyond a to z.
     return all(["a" <= sign <= "z" for sign in thing])
 
 
+def is_key(thing):
+    return is_word(thing, LONGEST_KEY)
+
+
 def is_row(thing):
     if not isinstance(thing, tuple) or len(thing) != 3:
         return False
-    if not is_whole(thing[0], 0, GREATEST_MOMENT) or not is_key(thing[1]):
+    if not is_whole_within(thing[0], 0, GREATEST_MOMENT) or not is_key(thing[1]):
         return False
-    return is_whole(thing[2], -GREATEST_NUMBER, GREATEST_NUMBER)
+    return is_whole_within(thing[2], -GREATEST_NUMBER, GREATEST_NUMBER)
 
 
 def is_log(rows):
@@ -59,8 +65,16 @@ def refuse_what_is_no_log(rows):
     refuse_out_of_order(rows)
 
 
+def refuse_what_are_no_two_logs(one, other):
+    # A thing that is no row, in either, comes ahead of any row out of its order.
+    refuse_what_is_no_row(one)
+    refuse_what_is_no_row(other)
+    refuse_out_of_order(one)
+    refuse_out_of_order(other)
+
+
 def refuse_number_beyond(thing, greatest):
-    if not is_whole(thing, 0, greatest):
+    if not is_whole_within(thing, 0, greatest):
         raise NoNumber(f"not a whole number from 0 to {greatest}")
 
 

@@ -46,7 +46,8 @@ def greatest(table, many):
 
 def greatest_keys(lines, many):
     ranked = sorted(lines, key=lambda line: (-line[3], line[1]))
-    return [line[1] for line in ranked[:many]]
+    # A slice would count a number below 0 from the end.
+    return [line[1] for line in ranked[:max(many, 0)]]
 
 
 def as_rows(table):

@@ -39,8 +39,8 @@ NO_WRITINGS = [
     "running |running", "running  | running", "running |  running", "running | | running", "running |  | running",
     "running || running", "running | running |", "running | running | ", "running running",
     # line feeds
-    "\n", "running\n", "\nrunning", "over 3\n", "over\n3", "key a\n", "key\na", "running\n| running", "running |\nrunning",
-    "running\nrunning", "over 3\n | running",
+    "\n", "running\n", "\nrunning", "over 3\n", "over\n3", "key a\n", "key\na", "running\n| running",
+    "running |\nrunning",     "running\nrunning", "over 3\n | running",
     # numbers written another way
     "over +3", "over +0", "over -0", "over 03", "over 00", "over -03", "over --3", "over 3-", "over -", "over 1_0",
     "over 3.0", "over 1e1", "over 0x1", "over three", "over True", "over None", "first 01", "first +1", "each 1_0",
@@ -52,8 +52,9 @@ NO_WRITINGS = [
     # keys
     "key A", "key aB", "key abc", "key 1", "key a1", "key -", "key 'a'", "key |", "key {", "key `", "key a b",
     # steps that are none
-    "last 3", "Over 3", "OVER 3", "overs 3", "ove 3", "Running", "running 3", "change 0", "unlike a", "over a", "over 3 4",
-    "first a", "3 over", "a key", "3", "a", "-", "--", "~", "('running',)", "()", "[]", "key a over 3", "key a, over 3",
+    "last 3", "Over 3", "OVER 3", "overs 3", "ove 3", "Running", "running 3", "change 0", "unlike a", "over a",
+    "over 3 4", "first a", "3 over", "a key", "3", "a", "-", "--", "~", "('running',)", "()", "[]", "key a over 3",
+    "key a, over 3",
     # six steps, and right ones beside wrong ones
     " | ".join(["running"] * 6), " | ".join(["over 3"] * 7), "running | last 3", "last 3 | running",
     "running | over 21 | running", "running | over 3 | running | over 3 | over +3",

@@ -167,6 +167,13 @@ class RowByRow(unittest.TestCase):
             rooms.append(join.room())
         self.assertEqual(rooms, [1, 2, 1, 2, 1])
 
+    def test_a_width_below_0_is_not_refused(self):
+        self.assertEqual(joined([(3, "a", 1)], [(3, "a", 2)], -1), [])
+        meeting = Join(-1)
+        self.assertEqual(meeting.take(0, (3, "a", 1)), [])
+        self.assertEqual(meeting.take(1, (3, "a", 2)), [])
+        self.assertEqual(meeting.room(), 0)
+
     def test_room_against_a_plain_telling(self):
         chance = random.Random(62)
         for turn in range(500):

@@ -24,6 +24,14 @@ BANNED_NAMES = set("register mro elements open input version_info with_traceback
 ALLOWED_VALUES = set("count index title find get join lower upper split strip copy add".split())
 STATEMENTS = (ast.Assign, ast.AugAssign, ast.If, ast.While, ast.For, ast.Return, ast.Break, ast.Continue, ast.Pass,
               ast.Raise, ast.Try, ast.Expr, ast.FunctionDef, ast.ClassDef, ast.ImportFrom)
+WALKED_BY = set("list tuple dict sorted sum any all enumerate zip min max".split())
+WALKED = set("zip enumerate reversed range".split())
+WALKED_METHODS = {"items", "keys", "values"}
+KEYWORDS = {"sorted": {"key", "reverse"}, "min": {"key", "default"}, "max": {"key", "default"}, "sum": {"start"},
+            "enumerate": {"start"}, "zip": {"strict"}}
+KINDS = set("int str bool list tuple dict".split())
+TAKEN_AS_YOU_LIKE = {"KeyError", "ZeroDivisionError", "StopIteration"}
+TAKEN_ROUND_CALLS = set("int str index remove".split())
 BANNED_NODES = (ast.NamedExpr, ast.SetComp, ast.DictComp, ast.GeneratorExp, ast.Starred, ast.Yield, ast.YieldFrom,
                 ast.Await, ast.Div, ast.MatMult)
 
@@ -35,10 +43,72 @@ def faults(source):
     found += top_faults(tree)
     bound = bound_names(tree)
     methods = {node.name for node in ast.walk(tree) if isinstance(node, ast.FunctionDef)}
+    above = {part: node for node in ast.walk(tree) for part in ast.iter_child_nodes(node)}
     for node in ast.walk(tree):
         found += statement_faults(node, tree)
         found += value_faults(node)
         found += name_faults(node, bound, methods)
+        found += call_faults(node, above, methods)
+        found += handler_faults(node)
+    return found
+
+
+def called(node):
+    """The name of what is called, be it a function or a method; None of all else."""
+    if not isinstance(node, ast.Call):
+        return None
+    return node.func.id if isinstance(node.func, ast.Name) else getattr(node.func, "attr", None)
+
+
+def call_faults(node, above, methods):
+    """L22, L23, L24 and L25: Python's own names and methods as they may be called."""
+    parent = above.get(node)
+    place = getattr(node, "lineno", 0)
+    found = []
+    if isinstance(node, ast.Call) and any(part.arg not in KEYWORDS.get(called(node), set()) for part in node.keywords):
+        found.append(("L22", place))
+    if called(node) == "isinstance":
+        kinds = node.args[1].elts if isinstance(node.args[1], ast.Tuple) else [node.args[1]]
+        found += [("L22", place) for kind in kinds if kind.id not in KINDS and not kind.id[0].isupper()]
+    if isinstance(node, ast.Name) and node.id in OWN_NAMES and node.id[0].islower() and not (
+            isinstance(parent, ast.Call) and (parent.func is node or called(parent) == "isinstance")
+            or isinstance(parent, (ast.keyword, ast.Tuple))):
+        found.append(("L22", place))
+    walked = isinstance(node, ast.Call) and (isinstance(node.func, ast.Name) and node.func.id in WALKED
+                                             or isinstance(node.func, ast.Attribute) and called(node) in WALKED_METHODS)
+    if walked and not (isinstance(parent, (ast.For, ast.comprehension)) and parent.iter is node
+                       or called(parent) in WALKED_BY and parent.args[0] is node):
+        found.append(("L23", place))
+    if (called(node) in ("set", "frozenset") or isinstance(node, ast.Set)) and not set_stands_right(node, above):
+        found.append(("L24", place))
+    read = isinstance(node, ast.Attribute) and isinstance(node.ctx, ast.Load)
+    if read and node.attr in OWN_METHODS | methods and not (
+            isinstance(parent, ast.Call) and parent.func is node or isinstance(parent, ast.keyword)):
+        found.append(("L25", place))
+    return found
+
+
+def set_stands_right(node, above):
+    parent = above[node]
+    while isinstance(parent, ast.BinOp) and isinstance(parent.op, (ast.Sub, ast.BitAnd, ast.BitOr, ast.BitXor)):
+        parent = above[parent]
+    return isinstance(parent, ast.Compare) or called(parent) in ("sorted", "len") and not parent.keywords
+
+
+def handler_faults(node):
+    """L19: what may be taken, and round what."""
+    if not isinstance(node, ast.Try):
+        return []
+    found = []
+    for handler in node.handlers:
+        kinds = handler.type.elts if isinstance(handler.type, ast.Tuple) else [handler.type]
+        names = [kind.id for kind in kinds if isinstance(kind, ast.Name)]
+        own = [name for name in names if name not in OWN_NAMES or name in TAKEN_AS_YOU_LIKE]
+        if len(own) == len(kinds):
+            continue
+        calls = {called(part) for line in node.body for part in ast.walk(line) if isinstance(part, ast.Call)}
+        if not names or not set(names) <= {"ValueError", "LookupError"} or not calls or calls - TAKEN_ROUND_CALLS:
+            found.append(("L19", handler.lineno))
     return found
 
 
@@ -167,6 +237,16 @@ def circle_faults(drawn):
     return found
 
 
+def drawn_faults(trees):
+    """L16: a name is drawn from the very file that defines it."""
+    defined = {name: {part.name for part in tree.body if isinstance(part, (ast.FunctionDef, ast.ClassDef))}
+               | {target.id for part in tree.body if isinstance(part, ast.Assign) for target in part.targets}
+               for name, tree in trees.items()}
+    rows = [node for tree in trees.values() for node in tree.body if isinstance(node, ast.ImportFrom)]
+    return [("L16", part.name) for row in rows for part in row.names
+            if part.name not in defined.get(row.module.split(".")[-1], set())]
+
+
 def bound_names(tree):
     found = {name for node in tree.body for name in top_names(node)}
     for node in ast.walk(tree):
@@ -191,6 +271,7 @@ class Package(unittest.TestCase):
                  for name, tree in trees.items()}
         self.assertEqual(class_faults(trees.values()), [])
         self.assertEqual(circle_faults(drawn), [])
+        self.assertEqual(drawn_faults(trees), [])
 
     def test_nothing_else_lies_in_the_package(self):
         for path in PACKAGE.iterdir():
@@ -210,7 +291,16 @@ class TheCheckItself(unittest.TestCase):
                 ("L10", "def f(x):\n" + "    x = x + 1\n" * 40), ("L12", "def _f(x):\n    return x"),
                 ("L14", "X = '\u00e4'"), ("L15", "def f(min):\n    return min"), ("L15", "X = 1\nX = 2"),
                 ("L17", "# a type"), ("L20", "def f(x, y):\n    return x is y"),
-                ("L25", "def f(x):\n    return x.title()"), ("L27", "X = '5 %'")]:
+                ("L25", "def f(x):\n    return x.title()"), ("L27", "X = '5 %'"),
+                ("L19", "def f(x):\n    try:\n        return x[0]\n    except Exception:\n        return 1"),
+                ("L19", "def f(x):\n    try:\n        return f(x)\n    except ValueError:\n        return 1"),
+                ("L19", "def f(x):\n    try:\n        return f(x)\n    except:\n        return 1"),
+                ("L22", "def f(x):\n    return f(x=1)"), ("L22", "def f(x):\n    g = len\n    return g(x)"),
+                ("L22", "def f(x):\n    return isinstance(x, set)"),
+                ("L23", "def f(x):\n    y = zip(x, x)\n    return y"),
+                ("L23", "def f(x):\n    x.extend(x.values())"), ("L24", "def f(x):\n    y = set(x)\n    return y"),
+                ("L24", "def f(x):\n    return [y for y in set(x)]"),
+                ("L25", "def f(x):\n    y = x.append\n    return y")]:
             with self.subTest(code=code):
                 self.assertIn(rule, [fault[0] for fault in faults('"""Words."""\n' + code + "\n")])
 
@@ -221,10 +311,17 @@ class TheCheckItself(unittest.TestCase):
         self.assertEqual(class_faults([one, other]), [("L18", "end"), ("L26", "items")])
         self.assertEqual(circle_faults({"a": ["b"], "b": ["c"], "c": []}), [])
         self.assertEqual(circle_faults({"a": ["b"], "b": ["c"], "c": ["b"]}), [("L16", "b"), ("L16", "c")])
+        third = ast.parse("from rowasks.one import A\nfrom rowasks.other import A as a")
+        self.assertEqual(drawn_faults({"one": one, "other": other, "third": third}), [("L16", "A")])
 
     def test_it_lets_stand_what_keeps_to_the_rules(self):
-        code = '"""Words."""\n\n\ndef f(xs):\n    return [x + 1 for x in xs if x is not None]\n'
-        self.assertEqual(faults(code), [])
+        for code in [
+                "return [x + 1 for x in xs if x is not None]", "return sorted(set(xs) | set(f(xs)))",
+                "return 1 in set(xs)", "return max(xs, key=len, default=None)", "return sorted(xs.items())",
+                "return [x + y for x, y in zip(xs, xs[1:])]", "return isinstance(xs, (int, str))",
+                "try:\n        return int(xs)\n    except ValueError:\n        return None"]:
+            with self.subTest(code=code):
+                self.assertEqual(faults(f'"""Words."""\n\n\ndef f(xs):\n    {code}\n'), [])
 
 
 if __name__ == "__main__":

@@ -88,6 +88,12 @@ class Taken(unittest.TestCase):
         self.assertEqual(Sorter(1).take((0, "a", 1)), [])
         self.assertEqual(Sorter(1).take((99, "a", 1)), [])
 
+    def test_a_number_below_0_is_not_refused(self):
+        for moment in [0, 7, 99]:
+            sorter = Sorter(-1)
+            self.assertEqual(sorter.take((moment, "a", 1)), [(moment, "a", 1)])
+            self.assertIs(refusal(sorter.take, (moment, "a", 1)), TooLate)
+
 
 class Whole(unittest.TestCase):
     def test_all_rows_in_their_order_whatever_the_order_in_which_they_came(self):

@@ -118,8 +118,8 @@ class Simpler(unittest.TestCase):
         self.check((("plus", 0), ("times", 1), ("each", 1), ("plus", 0), ("running",)), (("running",),))
 
     def test_steps_that_only_seem_to_do_nothing(self):
-        for step in [("over", -20), ("under", 20), ("plus", 1), ("times", 0), ("times", -1), ("first", 1), ("first", 20),
-                     ("each", 2), ("window", 1), ("change",), ("unlike",)]:
+        for step in [("over", -20), ("under", 20), ("plus", 1), ("times", 0), ("times", -1), ("first", 1),
+                     ("first", 20), ("each", 2), ("window", 1), ("change",), ("unlike",)]:
             self.check((step,), (step,))
 
     def test_a_key_goes_ahead(self):

@@ -148,7 +148,8 @@ class Longest(unittest.TestCase):
         self.assertEqual(longest([(7, "a", -2)], 5), ("a", 7, 7, 1, -2))
 
     def test_by_moments_not_by_rows(self):
-        self.assertEqual(longest([(0, "a", 1), (0, "a", 1), (0, "a", 1), (1, "b", 2), (3, "b", 2)], 2), ("b", 1, 3, 2, 4))
+        rows = [(0, "a", 1), (0, "a", 1), (0, "a", 1), (1, "b", 2), (3, "b", 2)]
+        self.assertEqual(longest(rows, 2), ("b", 1, 3, 2, 4))
 
     def test_of_several_as_long_the_first(self):
         self.assertEqual(longest([(0, "b", 1), (1, "a", 2), (2, "b", 3), (3, "a", 4)], 2), ("b", 0, 2, 2, 4))

@@ -167,6 +167,9 @@ class Greatest(unittest.TestCase):
         for many in [0, 1, 5]:
             self.assertEqual(greatest((3, ()), many), [])
 
+    def test_a_number_below_0_is_not_refused(self):
+        self.assertEqual(greatest(TABLE, -1), [(0, []), (2, [])])
+
     def test_of_like_sums_the_least_key(self):
         table = table_of(5, [(0, "c", 2), (0, "b", 2), (0, "aa", 1), (1, "d", 7), (1, "a", 2), (1, "aa", 1),
                              (2, "e", -1)])

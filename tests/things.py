@@ -1,5 +1,6 @@
 """What several test files need: things that are refused, some asks, logs and texts, a plain telling of the steps."""
 
+from rowasks.desks import Desk
 from rowasks.errors import AskError
 
 ANY_NUMBER_WORDS = ["over", "under", "plus", "times"]
@@ -117,3 +118,12 @@ def neighbours(text):
     made += [text[:k] + sign + text[k:] for k in range(len(text) + 1) for sign in signs]
     made += [text[:k] + sign + text[k + 1:] for k in range(len(text)) for sign in signs]
     return made
+
+
+def desk_of(rows, asks):
+    desk = Desk()
+    for row in rows:
+        desk.add(row)
+    for name in asks:
+        desk.hang(name, asks[name])
+    return desk
