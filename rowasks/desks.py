@@ -110,6 +110,9 @@ def name_line(desk, name):
 
 
 def read_desk(text):
+    # Any thing may be handed in. The words leave out what is no text: Python can't write out every whole number.
+    if not isinstance(text, str):
+        raise NoText("the writing of a desk is a text")
     lines = text.split("\n")
     # Each line is ended by a line feed, so nothing may stand behind the last one.
     if BEHIND_LOG not in lines or lines[-1] != "":

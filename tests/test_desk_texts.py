@@ -6,7 +6,8 @@ import unittest
 from rowasks.asks import asked
 from rowasks.desks import Desk, desk_text, read_desk
 from rowasks.errors import AskError, NoBack, NoText
-from things import desk_of, neighbours, refusal, some_ask, some_log, texts_up_to
+from things import (GREAT, GREAT_THINGS, ODD_THINGS, desk_of, neighbours, refusal, some_ask, some_log,
+                    texts_up_to)
 
 WRITINGS = [
     ([], {}, "--\n"),
@@ -41,6 +42,25 @@ NO_WRITINGS = [
     "--\nb: \na: \n", "--\na: \na: \n", "--\na: running\na: change\n", "--\na: \nab: \nb: \nab: \n", "--\nb: \nab: \n",
     "--\n" + "".join(f"{name}: \n" for name in "abcdefg"),
 ]
+
+# Signs that no desk is written with, some of which Python takes for digits, letters, blanks or the ends of lines.
+FAR_SIGNS = [
+    "--\r\n", "--\r", "--\t\n", "\t--\n", "--\x0b", "--\x0c", "--\x85", "--\u2028", "--\n\x00", "\ufeff--\n", "\ud800",
+    "--\n\udfff\n", "\u2014\n", "\u2212\u2212\n", "--\na: \r\n", "0 a 0\r\n--\n", "0\ta\t0\n--\n", "0\xa0a\xa00\n--\n",
+    "\u0663 a 0\n--\n", "0 a \uff13\n--\n", "0 a \xb2\n--\n", "0 a \u22121\n--\n", "0 \xe9 0\n--\n", "0 \uff41 0\n--\n",
+    "--\n\xe9: \n", "--\na\xdf: \n", "--\na:\xa0\n", "--\na\uff1a \n", "--\na: over \u0663\n", "--\na: key \xe9\n",
+    "--\na: running\x85", "--\na: running\u2028",
+]
+
+
+def no_texts():
+    """Things that are no texts; no subTest may name them, since Python can't write out each."""
+    things = ODD_THINGS + GREAT_THINGS + [(GREAT, "--\n"), ["--\n", GREAT], [[[[["--\n", GREAT]]]]]]
+    for rows, asks, text in WRITINGS:
+        lines = text.split("\n")
+        things += [(text,), [text], [[[[[text]]]]], (((((text,),),),),), lines, tuple(lines), list(text), tuple(text),
+                   (rows, tuple(asks)), [rows, list(asks)]]
+    return [thing for thing in things if not isinstance(thing, str)]
 
 
 def some_desk(chance):
@@ -114,6 +134,16 @@ class ReadDesk(unittest.TestCase):
         for text in NO_WRITINGS:
             with self.subTest(text=text[:60]):
                 self.assertIs(refusal(read_desk, text), NoText)
+
+    def test_signs_that_no_desk_is_written_with(self):
+        for text in FAR_SIGNS:
+            with self.subTest(text=ascii(text)):
+                self.assertIs(refusal(read_desk, text), NoText)
+
+    def test_what_is_no_text(self):
+        for number, thing in enumerate(no_texts()):
+            with self.subTest(number=number):
+                self.assertIs(refusal(read_desk, thing), NoText)
 
     def check_text(self, text):
         try:

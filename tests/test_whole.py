@@ -59,7 +59,7 @@ LISTS = [
     lambda rows: keys_changed(rows, "a", "c"), lambda rows: alike_asks([ASK, (), ASK], rows),
     lambda rows: needed_steps(ASK, rows), lambda rows: row_flow(ASK, rows),
 ]
-# All that may be handed any thing in the stead of a row, an ask, a name, a gap or a moment.
+# All that may be handed any thing in the stead of a row, an ask, a name, a gap, a moment or a desk's text.
 OF_ANY_THING = [
     lambda thing: asked(thing, LOG), lambda thing: asked((), [thing]), lambda thing: asked(ASK, LOG + [thing]), Walk,
     lambda thing: Walk(ASK).take(thing), lambda thing: Sorter(2).take(thing),
@@ -76,6 +76,7 @@ OF_ANY_THING = [
     lambda thing: unlike_at(LOG, OTHER, thing),
     lambda thing: Desk().add(thing), lambda thing: Desk().hang("a", thing), lambda thing: Desk().hang(thing, ASK),
     lambda thing: Desk().lose(thing), lambda thing: Desk().ask_of(thing), lambda thing: Desk().answer(thing),
+    read_desk,
     lambda thing: merged([[thing]]), lambda thing: by_keys_parted([thing]), lambda thing: from_to([thing], 0, 9),
     lambda thing: from_to(LOG, thing, 9), lambda thing: from_to(LOG, 0, thing), lambda thing: shifted([thing], 1),
     lambda thing: keys_changed([thing], "a", "b"),
